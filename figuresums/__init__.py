@@ -1,0 +1,1 @@
+"""Figuresums: sums of figures over rows of numbers."""

@@ -1,0 +1,1 @@
+"""Numbers as they are written by their figures."""

@@ -1,0 +1,1 @@
+"""What is told of stretches of numbers."""
