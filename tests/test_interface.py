@@ -5,7 +5,8 @@ import unittest
 
 from figuresums import errors
 from figuresums.figures import written
-from figuresums.stretches import totals
+from figuresums.others import weights
+from figuresums.stretches import ends, rests, told, totals
 
 FUNCTIONS = (
     (written, "read_number", ["text", "base"]),
@@ -15,6 +16,18 @@ FUNCTIONS = (
     (written, "root_of", ["number", "base"]),
     (totals, "total_of", ["first", "last", "base"]),
     (totals, "figures_in", ["first", "last", "base"]),
+    (told, "count_with", ["first", "last", "told", "base"]),
+    (told, "nth_with", ["place", "told", "base"]),
+    (told, "place_of", ["number", "base"]),
+    (told, "beside", ["number", "base"]),
+    (rests, "counts_by_rest", ["first", "last", "divisor", "base"]),
+    (rests, "count_both", ["first", "last", "told", "divisor", "rest", "base"]),
+    (rests, "count_divided", ["first", "last", "base"]),
+    (ends, "ends_of", ["first", "last", "base"]),
+    (ends, "records_in", ["first", "last", "base"]),
+    (weights, "weighed", ["number", "weights", "base"]),
+    (weights, "weighed_total", ["first", "last", "weights", "base"]),
+    (weights, "weighed_rests", ["first", "last", "weights", "divisor", "base"]),
 )
 
 

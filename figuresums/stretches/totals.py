@@ -1,6 +1,6 @@
 """The sums of all numbers of a stretch together, and how often each figure stands there."""
 
-from figuresums.errors import NoStretch
+from figuresums.stretches.blocks import check_stretch
 
 
 def total_of(first, last, base):
@@ -11,8 +11,7 @@ def total_of(first, last, base):
 
 def figures_in(first, last, base):
     """How often each figure, from 0 on, stands in the numbers from first to last."""
-    if first > last:
-        raise NoStretch("the first number is greater than the last one")
+    check_stretch(first, last)
     before = _counts_below(first, base)
     through = _counts_below(last + 1, base)
     return tuple([upper - lower for lower, upper in zip(before, through)])

@@ -1,0 +1,1 @@
+"""Sums of figures with weights by places, and least multiples."""
