@@ -1,1 +1,1 @@
-"""Sums of figures with weights by places, and least multiples."""
+"""Sums of figures with weights by places."""
