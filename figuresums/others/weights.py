@@ -1,7 +1,7 @@
 """Sums of figures with weights by places: of a number, and over a stretch."""
 
 from figuresums.figures.written import figures_of
-from figuresums.stretches.blocks import blocks_of, check_stretch, rotated
+from figuresums.stretches.blocks import Wheel, check_stretch
 
 
 def weighed(number, weights, base):
@@ -13,37 +13,57 @@ def weighed(number, weights, base):
 def weighed_total(first, last, weights, base):
     """What the weighed sums of all numbers from first to last come to together."""
     check_stretch(first, last)
-    total = 0
-    for start, places, worth in blocks_of(first, last, base):
-        total += worth * weighed(start, weights, base)
-        # At each place of a block all figures stand equally often.
-        each = worth * (base - 1) // 2
-        total += each * sum([_weight_at(place, weights) for place in range(places)])
-    return total
+    return _total_below(last + 1, weights, base) - _total_below(first, weights, base)
 
 
 def weighed_rests(first, last, weights, divisor, base):
     """How many numbers from first to last have weighed sums with each rest, from 0 on."""
     check_stretch(first, last)
-    rows = _rows_by_rests(len(figures_of(last, base)), weights, divisor, base)
-    counts = [0] * divisor
-    for start, places, _ in blocks_of(first, last, base):
-        row = rotated(rows[places], weighed(start, weights, base))
-        counts = [count + more for count, more in zip(counts, row)]
-    return tuple(counts)
+    wheel = Wheel((last + 1).bit_length(), divisor)
+    counts = row_of_sums(first, last, weights, base, wheel, 0)
+    return tuple([wheel.slot_at(counts, rest) for rest in range(divisor)])
 
 
-def _rows_by_rests(places, weights, divisor, base):
-    """For 0 to so many last places: how many of their fillings have each rest."""
-    rows = [[1] + [0] * (divisor - 1)]
-    for place in range(places):
-        weight = _weight_at(place, weights)
-        counts = [0] * divisor
-        for figure in range(base):
-            row = rotated(rows[-1], figure * weight)
-            counts = [count + more for count, more in zip(counts, row)]
-        rows.append(counts)
-    return rows
+def row_of_sums(first, last, weights, base, line, nought):
+    """How many numbers from first to last have each weighed sum: a row of the line.
+
+    The slot of the sum 0 is the one at nought.
+    """
+    ends = figures_of(last + 1, base)
+    starts = figures_of(first, base)
+    starts = (0,) * (len(ends) - len(starts)) + starts
+    # From the greatest place on the heads of the numbers are counted: from first's head to
+    # the one before that of last + 1. A place on, each goes on with all figures. Of those
+    # that go on the head of last + 1 the lesser ones come in, of first's they drop out.
+    row, start_at, end_at = 0, nought, nought
+    for behind, (start, end) in enumerate(zip(starts, ends)):
+        weight = _weight_at(len(ends) - 1 - behind, weights)
+        row = line.spread(row, base, weight)
+        row += line.spread(line.moved(1, end_at), end, weight)
+        row -= line.spread(line.moved(1, start_at), start, weight)
+        start_at += start * weight
+        end_at += end * weight
+    return row
+
+
+def _total_below(bound, weights, base):
+    """What the weighed sums of the numbers from 0 on that are less than bound come to."""
+    total, place, worth = 0, 0, 1
+    while worth < bound:
+        rounds, rest = divmod(bound, worth * base)
+        figure, left = divmod(rest, worth)
+        # A full round has each figure at this place worth times. Behind the rounds those
+        # less than bound's own stand there as often, its own one as often as is left.
+        together = worth * (rounds * _sum_below(base) + _sum_below(figure)) + left * figure
+        total += together * _weight_at(place, weights)
+        place += 1
+        worth *= base
+    return total
+
+
+def _sum_below(figure):
+    """What all lesser figures come to together."""
+    return figure * (figure - 1) // 2
 
 
 def _weight_at(place, weights):

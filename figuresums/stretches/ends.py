@@ -10,8 +10,7 @@ def ends_of(first, last, base):
     """The greatest and the least sum from first to last, each as (sum, first number with it)."""
     check_stretch(first, last)
     greatest = least = (sum_of(first, base), first)
-    for start, places, worth in blocks_of(first, last, base):
-        low = sum_of(start, base)
+    for start, low, places, worth in blocks_of(first, last, base):
         high = low + places * (base - 1)
         if high > greatest[0]:
             greatest = (high, start + worth - 1)

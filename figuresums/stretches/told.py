@@ -44,8 +44,8 @@ def _pair_with(first, last, told, base):
     """As count_with, but with nothing where first is greater than last."""
     rows = _rows_of_counts(len(figures_of(last, base)), told, base)
     many, total = 0, 0
-    for start, places, worth in blocks_of(first, last, base):
-        rest = told - sum_of(start, base)
+    for start, start_sum, places, worth in blocks_of(first, last, base):
+        rest = told - start_sum
         count = _count_at(rows[places], rest)
         many += count
         total += start * count
