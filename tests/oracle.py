@@ -88,3 +88,52 @@ def refused_stretches():
     """Pairs that are no stretches: the first number is greater than the last one."""
     pairs = [(1, 0), (5, 4), (10, 9), (100, 9), (GREATEST, 0), (GREATEST, GREATEST - 1)]
     return pairs + [(FAIR, FAIR - 1)]
+
+
+def written(number, base):
+    """The text of a number in a base."""
+    return "".join("0123456789abcdef"[figure] for figure in reversed(figures(number, base)))
+
+
+def carries_by_adding(one, other, base):
+    """How many carries are made when two numbers are added place by place."""
+    carry = carries = 0
+    while one > 0 or other > 0 or carry > 0:
+        carry = (one % base + other % base + carry) // base
+        carries += carry
+        one, other = one // base, other // base
+    return carries
+
+
+def least_multiples(divisor, base, most):
+    """For each sum to most the least number from 1 on with the sum that is divided.
+
+    The numbers are taken by how many figures they have, then in their order. Of all
+    with the same rest and the same sum only the first can be the head of a least one.
+    """
+    heads = {}
+    row = [(figure, figure) for figure in range(1, base)]
+    while row:
+        following = []
+        for number, total in row:
+            state = (number % divisor, total)
+            if total <= most and state not in heads:
+                heads[state] = number
+                following += [(number * base + figure, total + figure) for figure in range(base)]
+        row = following
+    return {total: number for (rest, total), number in heads.items() if rest == 0}
+
+
+def drawn_numbers(many, most, seed):
+    """Numbers from 0 to most of all lengths, the same ones at each run."""
+    drawn = []
+    state = seed
+    for _ in range(many):
+        state = (state * 6364136223846793005 + 1442695040888963407) % 2 ** 64
+        size = 1 + (state >> 33) % most.bit_length()
+        number = 0
+        for _ in range(0, size, 30):
+            state = (state * 6364136223846793005 + 1442695040888963407) % 2 ** 64
+            number = number << 30 | state >> 34
+        drawn.append(min(number % 2 ** size, most))
+    return drawn

@@ -3,9 +3,9 @@
 import inspect
 import unittest
 
-from figuresums import errors
-from figuresums.figures import written
-from figuresums.others import weights
+from figuresums import errors, kept, whole
+from figuresums.figures import carries, written
+from figuresums.others import multiples, weights
 from figuresums.stretches import ends, rests, told, totals
 
 FUNCTIONS = (
@@ -28,6 +28,17 @@ FUNCTIONS = (
     (weights, "weighed", ["number", "weights", "base"]),
     (weights, "weighed_total", ["first", "last", "weights", "base"]),
     (weights, "weighed_rests", ["first", "last", "weights", "divisor", "base"]),
+    (multiples, "least_multiple", ["divisor", "told", "base"]),
+    (multiples, "least_sum", ["divisor", "base"]),
+    (carries, "carries_of", ["one", "other", "base"]),
+    (carries, "pairs_without", ["bound", "base"]),
+    (carries, "turned_sum", ["number", "base"]),
+    (carries, "count_turned", ["first", "last", "told", "base"]),
+)
+CLASSES = (
+    (kept, "KeptNumber", ["base"], {"add": ["number"], "less": ["number"], "number_now": [], "sum_now": [],
+                                    "carries_now": []}),
+    (whole, "Desk", [], {"ask": ["line"]}),
 )
 
 
@@ -38,6 +49,17 @@ class InterfaceTest(unittest.TestCase):
                 function = getattr(module, name)
                 self.assertEqual(function.__module__, module.__name__)
                 self.assertEqual(list(inspect.signature(function).parameters), arguments)
+
+    def test_classes_stand_in_their_files_with_their_methods(self):
+        for module, name, arguments, methods in CLASSES:
+            with self.subTest(name=name):
+                kind = getattr(module, name)
+                self.assertEqual(kind.__module__, module.__name__)
+                self.assertEqual(list(inspect.signature(kind).parameters), arguments)
+                for method, handed in methods.items():
+                    self.assertIn(method, vars(kind))
+                    parameters = list(inspect.signature(vars(kind)[method]).parameters)
+                    self.assertEqual(parameters, ["self"] + handed)
 
     def test_errors_stand_in_their_file(self):
         for name in ("SumError", "NoStretch", "NoAsk", "NoNumber"):

@@ -1,1 +1,1 @@
-"""Sums of figures with weights by places."""
+"""Sums with weights by places, and multiples with told sums."""
